@@ -1,0 +1,35 @@
+// Package moot: what follows from clauses, step by step: see DOC.md.
+package moot
+
+import (
+	"moot/api"
+	"moot/syntax"
+)
+
+// Read reads clauses (P3).
+func Read(text string) ([][]api.Literal, int, api.Errno) { return syntax.Read(text) }
+
+// Print writes one (P3).
+func Print(clause []api.Literal) (string, api.Errno) { return syntax.Print(clause) }
+
+// Unify makes two the same (P4).
+func Unify(a []api.Node, b []api.Node) ([]api.Node, bool, api.Errno) { return nil, false, api.OK }
+
+// Covers asks whether one clause says what another does (P4).
+func Covers(c []api.Literal, d []api.Literal) (bool, api.Errno) { return false, api.OK }
+
+// Resolve makes a resolvent (P4).
+func Resolve(c []api.Literal, i int, d []api.Literal, j int) ([]api.Literal, bool, api.Errno) {
+	return nil, false, api.OK
+}
+
+// Factor makes a factor (P4).
+func Factor(c []api.Literal, i int, j int) ([]api.Literal, bool, api.Errno) {
+	return nil, false, api.OK
+}
+
+// Refutes goes over steps (P5).
+func Refutes(text string, steps []api.Step) bool { return false }
+
+// Solve looks whether all clauses can be true (P6).
+func Solve(text string, limit int) (api.Answer, api.Errno) { return api.Answer{}, api.OK }
