@@ -47,7 +47,7 @@ func inOrder(clause []api.Literal) bool {
 func distinct(literals []api.Literal) []api.Literal {
 	var kept []api.Literal
 	for _, l := range literals {
-		stood := func(k api.Literal) bool { return same(k, l) }
+		stood := func(k api.Literal) bool { return Same(k, l) }
 		if !slices.ContainsFunc(kept, stood) {
 			kept = append(kept, l)
 		}
@@ -55,7 +55,8 @@ func distinct(literals []api.Literal) []api.Literal {
 	return kept
 }
 
-func same(a, b api.Literal) bool {
+// Same tells whether two literals are the same to the variables' numbers.
+func Same(a, b api.Literal) bool {
 	return a.Not == b.Not && slices.Equal(a.Atom, b.Atom)
 }
 

@@ -101,3 +101,20 @@ func TestAtOdds(t *testing.T) {
 		}
 	}
 }
+
+func TestEnd(t *testing.T) {
+	nodes := []api.Node{f("f", 2), f("g", 1), v(7), f("f", 2), f("a", 0), v(0)}
+	for at, want := range []int{6, 3, 3, 6, 5, 6} {
+		if got := logic.End(nodes, at); got != want {
+			t.Errorf("End(%v, %d) = %d, want %d", nodes, at, got, want)
+		}
+	}
+}
+
+func TestParts(t *testing.T) {
+	for n, want := range map[api.Node]int{v(0): 0, v(7): 0, f("a", 0): 0, f("f", 3): 3} {
+		if got := logic.Parts(n); got != want {
+			t.Errorf("Parts(%v) = %d, want %d", n, got, want)
+		}
+	}
+}

@@ -11,6 +11,14 @@ import (
 // IsVariable tells whether a node is a variable: no name is empty.
 func IsVariable(n api.Node) bool { return n.Name == "" }
 
+// Parts is the number of a node's parts: a variable has none.
+func Parts(n api.Node) int {
+	if IsVariable(n) {
+		return 0
+	}
+	return n.N
+}
+
 // IsName tells whether a text can be a name, in quotes if need be.
 func IsName(name string) bool {
 	// Names of any length come in here: a look at the bytes spares going through a long one.
@@ -34,12 +42,17 @@ func IsTerm(nodes []api.Node) bool {
 		if missing == 0 || !isNode(n) {
 			return false
 		}
-		missing--
-		if !IsVariable(n) {
-			missing += n.N
-		}
+		missing += Parts(n) - 1
 	}
 	return missing == 0
+}
+
+// End is the place behind the term that begins at a place of a term's nodes.
+func End(nodes []api.Node, at int) int {
+	for missing := 1; missing > 0; at++ {
+		missing += Parts(nodes[at]) - 1
+	}
+	return at
 }
 
 // IsAtom tells whether the nodes are one atom: a term that is no variable.

@@ -3,6 +3,8 @@ package moot
 
 import (
 	"moot/api"
+	"moot/infer"
+	"moot/proof"
 	"moot/syntax"
 )
 
@@ -13,23 +15,23 @@ func Read(text string) ([][]api.Literal, int, api.Errno) { return syntax.Read(te
 func Print(clause []api.Literal) (string, api.Errno) { return syntax.Print(clause) }
 
 // Unify makes two the same (P4).
-func Unify(a []api.Node, b []api.Node) ([]api.Node, bool, api.Errno) { return nil, false, api.OK }
+func Unify(a []api.Node, b []api.Node) ([]api.Node, bool, api.Errno) { return infer.Unify(a, b) }
 
 // Covers asks whether one clause says what another does (P4).
-func Covers(c []api.Literal, d []api.Literal) (bool, api.Errno) { return false, api.OK }
+func Covers(c []api.Literal, d []api.Literal) (bool, api.Errno) { return infer.Covers(c, d) }
 
 // Resolve makes a resolvent (P4).
 func Resolve(c []api.Literal, i int, d []api.Literal, j int) ([]api.Literal, bool, api.Errno) {
-	return nil, false, api.OK
+	return infer.Resolve(c, i, d, j)
 }
 
 // Factor makes a factor (P4).
 func Factor(c []api.Literal, i int, j int) ([]api.Literal, bool, api.Errno) {
-	return nil, false, api.OK
+	return infer.Factor(c, i, j)
 }
 
 // Refutes goes over steps (P5).
-func Refutes(text string, steps []api.Step) bool { return false }
+func Refutes(text string, steps []api.Step) bool { return proof.Refutes(text, steps) }
 
 // Solve looks whether all clauses can be true (P6).
 func Solve(text string, limit int) (api.Answer, api.Errno) { return api.Answer{}, api.OK }
