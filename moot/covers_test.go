@@ -181,17 +181,24 @@ func instance(r *rand.Rand, c []api.Literal) []api.Literal {
 	return orderTrees(nots, trees)
 }
 
-// Laid on each other literal by literal, these would take long: each of the first seven can be any, and the last one none that fits.
+// Laid on each other in all ways, these would take long.
 func TestCoversSoon(t *testing.T) {
+	// Each literal of p can be any, and that of q none that fits.
 	var c, d []api.Literal
 	for n := range 7 {
 		c = append(c, is(f("p", 3), v(2*n), v(2*n+1), v(2*n+2)))
 		d = append(d, is(f("p", 3), f("a", 0), f(times("b", n+1), 0), f("a", 0)))
 	}
 	c, d = append(c, is(f("q", 1), v(14))), append(d, is(f("q", 1), f("c", 0)))
-	for range 300 {
+	// Each one of the first five can be any; the ring of three cannot be, whichever they are.
+	ring := read(t, "p(A, B) | p(C, D) | p(E, F) | p(G, H) | p(I, J) | p(X, Y) | p(Y, Z) | p(Z, X)")
+	even := read(t, "p(a, b) | p(b, a) | p(a, d) | p(d, a) | p(c, b) | p(b, c) | p(c, d) | p(d, c)")
+	for range 1000 {
 		if got, e := moot.Covers(c, d); got || e != api.OK {
 			t.Fatalf("Covers(%v, %v) = %t, %d", c, d, got, e)
+		}
+		if got, e := moot.Covers(ring, even); got || e != api.OK {
+			t.Fatalf("Covers(%v, %v) = %t, %d", ring, even, got, e)
 		}
 	}
 }
