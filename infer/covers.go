@@ -12,8 +12,13 @@ func Covers(c, d []api.Literal) (bool, api.Errno) {
 	if !logic.IsClause(c) || !logic.IsClause(d) {
 		return false, api.ErrTerm
 	}
+	return CoversInOrder(c, d), api.OK
+}
+
+// CoversInOrder tells whether c covers d, if both are known to be clauses in order and not above their size.
+func CoversInOrder(c, d []api.Literal) bool {
 	m := matcher{among: d}
-	return len(c) <= len(d) && m.all(c), api.OK
+	return len(c) <= len(d) && m.all(c)
 }
 
 // matcher looks for terms in the place of variables by which literals come to be among others.

@@ -12,7 +12,7 @@ func Unify(a, b []api.Node) ([]api.Node, bool, api.Errno) {
 	if !logic.IsTerm(a) || !logic.IsTerm(b) {
 		return nil, false, api.ErrTerm
 	}
-	terms := unify.New()
+	terms := unify.New(len(a) + len(b))
 	at := terms.Add(0, a)
 	if !terms.Unify(at, terms.Add(0, b)) {
 		return nil, false, api.OK
@@ -36,7 +36,12 @@ func Resolve(c []api.Literal, i int, d []api.Literal, j int) ([]api.Literal, boo
 	if !isPlace(c, i) || !isPlace(d, j) || c[i].Not == d[j].Not {
 		return nil, false, api.ErrPlace
 	}
-	terms := unify.New()
+	return resolvent(c, i, d, j)
+}
+
+// resolvent is that of clauses and places that may be.
+func resolvent(c []api.Literal, i int, d []api.Literal, j int) ([]api.Literal, bool, api.Errno) {
+	terms := unify.New(logic.Nodes(c) + logic.Nodes(d))
 	if !terms.Unify(terms.Add(0, c[i].Atom), terms.Add(1, d[j].Atom)) {
 		return nil, false, api.OK
 	}
@@ -51,7 +56,12 @@ func Factor(c []api.Literal, i, j int) ([]api.Literal, bool, api.Errno) {
 	if !isPlace(c, i) || !isPlace(c, j) || i >= j || c[i].Not != c[j].Not {
 		return nil, false, api.ErrPlace
 	}
-	terms := unify.New()
+	return factor(c, i, j)
+}
+
+// factor is that of a clause and places that may be.
+func factor(c []api.Literal, i, j int) ([]api.Literal, bool, api.Errno) {
+	terms := unify.New(logic.Nodes(c))
 	if !terms.Unify(terms.Add(0, c[i].Atom), terms.Add(0, c[j].Atom)) {
 		return nil, false, api.OK
 	}

@@ -25,6 +25,17 @@ func Fits(clause []api.Literal) bool {
 	return len(clause) <= api.MaxLiterals && Nodes(clause) <= api.MaxNodes
 }
 
+// IsIdle tells whether an atom stands in a clause with and without NOT.
+func IsIdle(clause []api.Literal) bool {
+	for i, l := range clause {
+		turned := api.Literal{Not: !l.Not, Atom: l.Atom}
+		if slices.ContainsFunc(clause[:i], func(k api.Literal) bool { return Same(k, turned) }) {
+			return true
+		}
+	}
+	return false
+}
+
 // Nodes counts the nodes of all literals.
 func Nodes(literals []api.Literal) int {
 	count := 0

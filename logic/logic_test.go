@@ -84,6 +84,28 @@ func TestOrder(t *testing.T) {
 	}
 }
 
+func TestIsIdle(t *testing.T) {
+	p, q := []api.Node{f("p", 1), v(0)}, []api.Node{f("p", 1), v(1)}
+	for _, c := range []struct {
+		clause []api.Literal
+		want   bool
+	}{
+		{nil, false},
+		{[]api.Literal{is(p...)}, false},
+		{[]api.Literal{not(p...)}, false},
+		{[]api.Literal{is(p...), is(q...)}, false},
+		{[]api.Literal{is(p...), not(q...)}, false},
+		{[]api.Literal{is(p...), not(p...)}, true},
+		{[]api.Literal{not(p...), is(q...), is(p...)}, true},
+		{[]api.Literal{is(p...), not(q...), is(q...)}, true},
+		{[]api.Literal{is(f("p", 1), f("a", 0)), not(f("p", 1), f("b", 0))}, false},
+	} {
+		if got := logic.IsIdle(c.clause); got != c.want {
+			t.Errorf("IsIdle(%v) = %t", c.clause, got)
+		}
+	}
+}
+
 func TestAtOdds(t *testing.T) {
 	for _, c := range []struct {
 		literals []api.Literal

@@ -203,6 +203,71 @@ func TestFollowsSharesNothingWithin(t *testing.T) {
 	}
 }
 
+// solveTexts have an answer of each verdict.
+func solveTexts() []string {
+	return []string{
+		"$false.",
+		"p(X) | p(Y). ~p(Z) | ~p(V).",
+		"p(X) | ~q(X, a). q(Y, Y) | p(f(Y)). r | ~p(b).",
+		"p(a). ~p(X) | p(f(X)).",
+	}
+}
+
+// lists are the lists of an answer: each clause is one, the lists in it its own.
+func lists(a api.Answer) [][]api.Literal {
+	var list [][]api.Literal
+	for _, s := range a.Steps {
+		list = append(list, s.Clause)
+	}
+	return list
+}
+
+// P2: what comes out is new memory.
+func TestSolveAnswersNewMemory(t *testing.T) {
+	for _, text := range solveTexts() {
+		before, want, spoilt := solve(t, text, 9), solve(t, text, 9), solve(t, text, 9)
+		spoil(lists(spoilt))
+		for k := range spoilt.Steps[:cap(spoilt.Steps)] {
+			spoilt.Steps[:cap(spoilt.Steps)][k] = api.Step{Rule: 9, A: 9}
+		}
+		for k := range spoilt.Kept[:cap(spoilt.Kept)] {
+			spoilt.Kept[:cap(spoilt.Kept)][k] = 99
+		}
+		if after := solve(t, text, 9); !sameAnswer(before, want) || !sameAnswer(after, want) {
+			t.Errorf("Solve(%q, 9), one answer written into: others are %v and %v, want %v", text, before, after, want)
+		}
+	}
+}
+
+// P2: no list of an answer shares memory with another one of it.
+func TestSolveSharesNothingWithin(t *testing.T) {
+	for _, text := range solveTexts() {
+		want := solve(t, text, 9)
+		for n, s := range want.Steps {
+			for i := range s.Clause {
+				got := solve(t, text, 9)
+				c := got.Steps[n].Clause
+				spoil([][]api.Literal{c[i : i+1 : i+1]})
+				c[i] = s.Clause[i]
+				if !sameAnswer(got, want) {
+					t.Errorf("Solve(%q, 9), the literal %d of the clause %d written into: %v, want %v", text, i, n, got, want)
+				}
+			}
+		}
+		got := solve(t, text, 9)
+		_, _ = append(got.Steps, api.Step{Rule: 9}), append(got.Kept, 99)
+		for _, c := range lists(got) {
+			_ = append(c, not(v(99)))
+			for _, l := range c {
+				_ = append(l.Atom, f("spoilt", 7))
+			}
+		}
+		if !sameAnswer(got, want) {
+			t.Errorf("Solve(%q, 9), behind each list written: %v, want %v", text, got, want)
+		}
+	}
+}
+
 // P2: nothing is kept from call to call.
 func TestAnswersDependOnArgumentsAlone(t *testing.T) {
 	c := clause(is(f("p", 1), v(0)))
@@ -228,6 +293,14 @@ func TestAnswersDependOnArgumentsAlone(t *testing.T) {
 		}
 		if got, e := moot.Covers(d, d); !got || e != api.OK {
 			t.Errorf("Covers = %t, %d", got, e)
+		}
+	}
+	for limit := 1; limit < 9; limit++ {
+		one := solve(t, sampleText, limit)
+		moot.Solve("p. p(a).", limit)
+		solve(t, "p(a). ~p(X).", 10-limit)
+		if again := solve(t, sampleText, limit); !sameAnswer(one, again) {
+			t.Errorf("Solve = %v, and before %v", again, one)
 		}
 	}
 	reads(t, map[string][][]api.Literal{"p(Z).": {c}, "p.": {{is(f("p", 0))}}, "q(p).": {{is(f("q", 1), f("p", 0))}}})

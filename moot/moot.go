@@ -5,6 +5,7 @@ import (
 	"moot/api"
 	"moot/infer"
 	"moot/proof"
+	"moot/search"
 	"moot/syntax"
 )
 
@@ -34,4 +35,4 @@ func Factor(c []api.Literal, i int, j int) ([]api.Literal, bool, api.Errno) {
 func Refutes(text string, steps []api.Step) bool { return proof.Refutes(text, steps) }
 
 // Solve looks whether all clauses can be true (P6).
-func Solve(text string, limit int) (api.Answer, api.Errno) { return api.Answer{}, api.OK }
+func Solve(text string, limit int) (api.Answer, api.Errno) { return search.Solve(text, limit) }

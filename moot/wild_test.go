@@ -3,6 +3,7 @@ package moot_test
 import (
 	"math"
 	"math/rand"
+	"reflect"
 	"slices"
 	"testing"
 
@@ -94,5 +95,49 @@ func TestListsOfAnyLength(t *testing.T) {
 	}
 	if got, ok, e := moot.Unify(nodes, nodes); len(got) != 0 || ok || e != api.ErrTerm {
 		t.Errorf("Unify = %v, %t, %d", got, ok, e)
+	}
+}
+
+// P1: Solve answers whatever it is given, and with an error nothing else.
+func TestSolveAnything(t *testing.T) {
+	w := wild{rand.New(rand.NewSource(14))}
+	pieces := []string{"p", "q(X, a)", "q(f(Y), X)", "~", "~", " | ", " | ", ".", ".", ".\n", "$false", "r(X)", "%", "\xff", "(", "'s'"}
+	counts := map[api.Errno]int{}
+	for range 20000 {
+		text := ""
+		for range w.Intn(12) {
+			text += pieces[w.Intn(len(pieces))]
+		}
+		if w.Intn(2) == 0 {
+			text = chance(w.Rand, 4, 3, "p", "q(X, a)", "q(f(Y), X)", "r(X)", "r(q)", "s(X, X, X, Y, Y)")
+		}
+		limit := w.number()
+		a, e := moot.Solve(text, limit)
+		if e != api.OK && !reflect.DeepEqual(a, api.Answer{}) {
+			t.Errorf("Solve(%q, %d) = %v, %d", text, limit, a, e)
+		}
+		counts[e]++
+	}
+	for _, e := range []api.Errno{api.OK, api.ErrForm, api.ErrName, api.ErrNumber} {
+		if counts[e] < 500 {
+			t.Errorf("the error %d came %d times", e, counts[e])
+		}
+	}
+	if a, e := moot.Solve(times("p. ", 1<<20), 5); e != api.ErrLong || !reflect.DeepEqual(a, api.Answer{}) {
+		t.Errorf("Solve of a long text = %v, %d", a, e)
+	}
+}
+
+// P1: it ends soon, where much follows, or where it is hard to tell what is covered.
+func TestSolveEnds(t *testing.T) {
+	for _, text := range []string{
+		"~p(X, Z, U) | p(U, V, W) | p(X, W, U) | ~p(U, V, V).",
+		"p(A, B) | p(B, C) | p(C, D) | p(D, E) | p(E, F) | p(F, G) | p(G, H) | p(H, A). ~p(X, Y) | p(Y, X). ~p(X, X).",
+		"p(g(A, o), g(B, C)) | ~p(f(A), g(D, D)) | ~p(B, g(E, B)) | ~p(g(B, B), f(B)). ~p(g(o, A), g(E, B)) | p(g(C, o), g(B, D)) | p(g(D, D), C).",
+		"p(e, X, X). p(X, e, X). p(X, X, e). p(a, b, c). ~p(X, Y, U) | ~p(Y, Z, V) | ~p(U, Z, W) | p(X, V, W). ~p(X, Y, U) | ~p(Y, Z, V) | ~p(X, V, W) | p(U, Z, W).",
+	} {
+		if a, e := moot.Solve(text, 100); e != api.OK || a.Verdict == 0 {
+			t.Errorf("Solve(%q, 100) = %d, %d", text, a.Verdict, e)
+		}
 	}
 }

@@ -26,9 +26,15 @@ const (
 	asked   = -1
 )
 
-// New makes room for terms.
-func New() *Terms {
-	return &Terms{first: map[variable]int{}}
+// New makes room for terms of so many nodes; there may come more.
+func New(nodes int) *Terms {
+	return &Terms{
+		nodes:   make([]api.Node, 0, nodes),
+		ends:    make([]int, 0, nodes),
+		leaders: make([]int, 0, nodes),
+		sizes:   make([]int, 0, nodes),
+		first:   map[variable]int{},
+	}
 }
 
 // Add puts a term behind the others, and answers its place. Variables with the same number are one if they have one owner.

@@ -13,12 +13,12 @@ func v(n int) api.Node { return api.Node{N: n} }
 func f(name string, parts int) api.Node { return api.Node{Name: name, N: parts} }
 
 func TestOwnersHaveVariablesOfTheirOwn(t *testing.T) {
-	terms := unify.New()
+	terms := unify.New(3)
 	x, fx := terms.Add(0, []api.Node{v(0)}), terms.Add(1, []api.Node{f("f", 1), v(0)})
 	if !terms.Unify(x, fx) {
 		t.Errorf("the variables of two owners are taken for one")
 	}
-	terms = unify.New()
+	terms = unify.New(3)
 	x, fx = terms.Add(1, []api.Node{v(0)}), terms.Add(1, []api.Node{f("f", 1), v(0)})
 	if terms.Unify(x, fx) {
 		t.Errorf("a variable is unified with what it is a part of")
@@ -27,7 +27,7 @@ func TestOwnersHaveVariablesOfTheirOwn(t *testing.T) {
 
 // A term that comes later is made what its variables were made before.
 func TestMadeOfLaterTerms(t *testing.T) {
-	terms := unify.New()
+	terms := unify.New(3)
 	x, a := terms.Add(0, []api.Node{v(3)}), terms.Add(0, []api.Node{f("f", 1), f("a", 0)})
 	if !terms.Unify(x, a) {
 		t.Fatalf("a variable and f(a) cannot be unified")
@@ -39,7 +39,7 @@ func TestMadeOfLaterTerms(t *testing.T) {
 }
 
 func TestUnifyMoreThanOnce(t *testing.T) {
-	terms := unify.New()
+	terms := unify.New(3)
 	x, fy := terms.Add(0, []api.Node{v(0)}), terms.Add(0, []api.Node{f("f", 1), v(1)})
 	y, gz := terms.Add(0, []api.Node{v(1)}), terms.Add(0, []api.Node{f("g", 1), v(2)})
 	if !terms.Unify(x, fy) || !terms.Unify(y, gz) {
