@@ -9,7 +9,7 @@ import (
 	"moot/moot"
 )
 
-// What P6 says of an answer, gone over by trees.
+// What P6 says of an answer: its steps are gone over by trees; whether what is kept is closed, by Resolve, Factor and Covers, which other tests hold against trees.
 
 // solve asks for an answer, and goes over it.
 func solve(t *testing.T, text string, limit int) api.Answer {
